@@ -1,0 +1,1 @@
+"""Slackchain: measures in chains and rings, and slack shared among parts."""
