@@ -1,4 +1,4 @@
-"""The package keeps to its small part of Python, as far as that can be read off its files."""
+"""The package keeps to its small part of Python: a check of some of the rules (files, sizes, forms, imports, names)."""
 
 import ast
 import builtins
