@@ -26,10 +26,10 @@ class NoFace(SlackError):
 
 
 class Impossible(SlackError):
-    def __init__(self, words="", around=()):
+    def __init__(self, words="", around=None):
         SlackError.__init__(self, words)
         # A copy, so that whoever raised it may go on with the list.
-        self.around = list(around)
+        self.around = [] if around is None else list(around)
 
 
 class NoPart(SlackError):

@@ -48,6 +48,19 @@ class ErrorValues(unittest.TestCase):
         error.around.append(("c", True))
         self.assertEqual(ring, [("a", True), ("b", True)])
 
+    def test_around_left_out_is_an_empty_list(self):
+        self.assertEqual(errors.Impossible().around, [])
+        self.assertEqual(errors.Impossible("words").around, [])
+        self.assertEqual(errors.Impossible("words", []).around, [])
+
+    def test_a_raised_impossible_has_around(self):
+        ring = [("a", True), ("b", False)]
+        with self.assertRaises(errors.Impossible) as caught:
+            raise errors.Impossible("words", ring)
+        ring.clear()
+        self.assertIs(type(caught.exception.around), list)
+        self.assertEqual(caught.exception.around, [("a", True), ("b", False)])
+
     def test_two_errors_have_nothing_in_common(self):
         one = errors.Impossible("words")
         other = errors.Impossible("words")

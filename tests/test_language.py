@@ -54,6 +54,23 @@ def defined_methods():
     return told
 
 
+def spoiled_defaults(tree):
+    """The defaults, of functions, methods and lambdas, that are other than a written number, text, truth or None."""
+    told = []
+    for node in ast.walk(tree):
+        if isinstance(node, (ast.FunctionDef, ast.AsyncFunctionDef, ast.Lambda)):
+            for default in node.args.defaults + [one for one in node.args.kw_defaults if one is not None]:
+                value = default
+                if isinstance(value, ast.UnaryOp) and isinstance(value.op, ast.USub):
+                    value = value.operand
+                    plain = isinstance(value, ast.Constant) and type(value.value) is int
+                else:
+                    plain = isinstance(value, ast.Constant) and type(value.value) in (int, str, bool, type(None))
+                if not plain:
+                    told.append(ast.unparse(default))
+    return told
+
+
 class Files(unittest.TestCase):
     def test_there_are_files(self):
         names = [path.name for path, text in sources()]
@@ -123,6 +140,22 @@ class Code(unittest.TestCase):
                     self.assertIsNone(argument.annotation, where)
                     self.assertFalse(hasattr(builtins, argument.arg), where)
                 self.assertTrue(node.name in DUNDERS or not node.name.startswith("_"), where)
+
+    def test_defaults_are_plain_values(self):
+        for path, text in sources():
+            self.assertEqual(spoiled_defaults(ast.parse(text)), [], path.name)
+
+    def test_spoiled_defaults_are_found(self):
+        plain = ["1", "0", "-1", "''", "'a'", "True", "False", "None"]
+        spoiled = ["()", "(1,)", "[]", "[1]", "{}", "{1}", "1.5", "-1.5", "b'a'", "...", "NAME", "f'a'", "list()",
+                   "1 + 1", "-True", "not 1", "lambda: 1"]
+        forms = ["def f(a=%s): pass", "class C:\n    def f(self, a, b=%s): pass", "f = lambda a=%s: a",
+                 "def f():\n    def g(a=1, b=%s): pass", "def f(*, a=%s): pass"]
+        for form in forms:
+            for text in plain:
+                self.assertEqual(spoiled_defaults(ast.parse(form % text)), [], text)
+            for text in spoiled:
+                self.assertEqual(spoiled_defaults(ast.parse(form % text)), [text], text)
 
     def test_names(self):
         for name, tree, node in walked():
