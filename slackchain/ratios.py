@@ -24,11 +24,16 @@ def fraction(top, bottom=1):
 
 
 def plus(one, other):
-    return fraction(one[0] * other[1] + other[0] * one[1], one[1] * other[1])
+    # Divisors are sought within what both bottoms share, never in the whole sum: so a long sum and
+    # a short fraction are added quickly. The outcome is in lowest terms, as both fractions are.
+    shared = common_divisor(one[1], other[1])
+    top = one[0] * (other[1] // shared) + other[0] * (one[1] // shared)
+    rest = common_divisor(top, shared)
+    return (top // rest, one[1] // shared * (other[1] // rest))
 
 
 def minus(one, other):
-    return fraction(one[0] * other[1] - other[0] * one[1], one[1] * other[1])
+    return plus(one, (-other[0], other[1]))
 
 
 def times(one, other):

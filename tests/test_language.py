@@ -74,7 +74,8 @@ def spoiled_defaults(tree):
 class Files(unittest.TestCase):
     def test_there_are_files(self):
         names = [path.name for path, text in sources()]
-        for name in ["__init__.py", "errors.py", "ratios.py", "ties.py"]:
+        for name in ["__init__.py", "errors.py", "ratios.py", "ties.py", "chains.py", "reach.py", "books.py",
+                     "things.py"]:
             self.assertIn(name, names)
 
     def test_nothing_else_lies_in_the_package(self):
@@ -126,6 +127,38 @@ class Code(unittest.TestCase):
                 for one in node.names:
                     self.assertIn(one.name, made, name)
                     self.assertIsNone(one.asname, name)
+
+    def test_no_two_files_draw_from_one_another(self):
+        drawn = {}
+        for path, text in sources():
+            rows = [node for node in ast.parse(text).body if isinstance(node, ast.ImportFrom)]
+            drawn[path.stem] = {row.module.split(".")[1] for row in rows}
+        while drawn:
+            free = [stem for stem in drawn if not drawn[stem] & set(drawn)]
+            self.assertNotEqual(free, [], drawn)
+            for stem in free:
+                drawn.pop(stem)
+
+    def test_parameters_and_locals_are_called_unlike_classes_and_imports(self):
+        for path, text in sources():
+            tree = ast.parse(text)
+            taken = {node.name for node in tree.body if isinstance(node, ast.ClassDef)}
+            for node in tree.body:
+                if isinstance(node, ast.ImportFrom):
+                    taken.update(one.name for one in node.names)
+            for node in ast.walk(tree):
+                if isinstance(node, ast.arg):
+                    self.assertNotIn(node.arg, taken, path.name)
+                if isinstance(node, ast.Name) and isinstance(node.ctx, ast.Store):
+                    self.assertNotIn(node.id, taken, path.name)
+
+    def test_is_stands_beside_none_true_and_false_alone(self):
+        for name, tree, node in walked():
+            if isinstance(node, ast.Compare):
+                for sign, right in zip(node.ops, node.comparators):
+                    if isinstance(sign, (ast.Is, ast.IsNot)):
+                        self.assertIsInstance(right, ast.Constant, (name, node.lineno))
+                        self.assertIn(right.value, (None, True, False), (name, node.lineno))
 
     def test_functions(self):
         for name, tree, node in walked():

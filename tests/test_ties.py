@@ -6,53 +6,7 @@ from slackchain.errors import NoTie
 from slackchain.ties import (
     AtLeast, AtMost, Between, Free, Just, Tie, is_fraction, is_name, tie_of,
 )
-
-SIXTY = 10 ** 60 - 1
-FOUR_HUNDRED = 10 ** 400 - 1
-LETTERS = "abcdefghijklmnopqrstuvwxyz"
-
-
-class Stubborn:
-    """A thing that answers nothing that is asked of it."""
-
-    def refuse(self, *rest):
-        raise RuntimeError("asked of a thing of another kind")
-
-    __eq__ = __ne__ = __lt__ = __le__ = __gt__ = __ge__ = refuse
-    __bool__ = __len__ = __iter__ = __getitem__ = __hash__ = __contains__ = refuse
-
-
-class Agreeing:
-    """A thing that says it equals whatever it is held against."""
-
-    def __eq__(self, other):
-        return True
-
-
-def other_kinds():
-    return [
-        None, True, False, 0, 1, -1, SIXTY, 1.5, float("nan"), 1j, b"", b"a", bytearray(b"a"),
-        [], ["a"], {}, {"a": 1}, set(), {"a"}, frozenset("a"), range(2), object(), Stubborn(), Agreeing(),
-        len, int, str, tuple, ValueError("a"), iter([]), NotImplemented, ...,
-    ]
-
-
-NO_NAMES = [
-    "", "abcdefghi", "a" * 1000, "A", "aB", "Ab", "abC", "ABCDEFGH", "1", "a1", "1a", " ", "a b", " a", "a ",
-    "\n", "a\n", "\na", "abcdefgh\n", "a\nb", "a_b", "_", "a-b", "-", "-a", "a/b", "`", "{", "a`", "{a", "@", "[",
-    "~", "\t", "a\t", "a\r", "\x00", "\u00e4", "a\u00e9", "\u00df", "\u00aa", "\u0430", "\u03b1", "\uff41",
-    "\ufb01", "\U0001d41a",
-]
-
-NO_FRACTIONS = [
-    (), (1,), (1, 2, 3), (1, 1, 1), (0,), (0, 0), (1, 0), (-1, 0), (1, -1), (0, -1), (1, -2), (-1, -2), (3, -4),
-    (2, 4), (-2, 4), (2, 2), (-2, 2), (0, 2), (0, 3), (6, 3), (3, 6), (SIXTY, SIXTY), (0, SIXTY), (SIXTY, 3),
-    (True, 1), (1, True), (False, 1), (1, False), (True, True), (True, 2), (0, True),
-    (1.0, 1), (1, 1.0), (1, None), (None, 1), (None, None), ("1", 1), (1, "2"), ("1", "2"),
-    ((1, 1), 1), (1, (1, 1)), ((1, 1), (1, 1)), ([1], 2), (1, [2]), (1, {}), (1j, 1), (float("nan"), 1),
-    [1, 2], [1, 1], [], "1/2", "12", "ab", {1: 2}, {1: 1, 2: 2}, range(1, 3),
-    (Stubborn(), 1), (1, Stubborn()), (Agreeing(), 1), (1, Agreeing()), (Agreeing(), Agreeing()),
-]
+from tests.samples import FOUR_HUNDRED, LETTERS, NO_FRACTIONS, NO_NAMES, SIXTY, other_kinds
 
 
 class Names(unittest.TestCase):
