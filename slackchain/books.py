@@ -7,8 +7,8 @@ from slackchain.reach import chains_from, steps_of
 from slackchain.ties import ZERO, tie_of
 
 
-# All faces are started from at 0: the least sum to each is a place, since no step allows less there.
-# The chains of it lead from wherever, so only the sums are kept.
+# With all faces started from at 0, the least sums are places: across each step the sum rises by no
+# more than its cost, which is what the tie asks.
 def places_of(steps, faces):
     told = chains_from(steps, faces)
     places = {}
@@ -25,9 +25,9 @@ def whole_above(number):
     return -(-number[0] // number[1])
 
 
-# The faces that are not reached may all be moved up together: no step leads to them from those that
-# are reached. This tells how far is enough for the steps that lead from them to those; a whole
-# number, so that places get no longer bottoms by it.
+# No step leads from a face that is reached to one that is not, so those that are not may all be moved
+# up together, far enough for the steps that lead from them to the others. A whole number is enough,
+# and gives their places no longer bottoms.
 def enough_above(steps, reached_chains, places):
     enough = 0
     for step in steps:
@@ -102,10 +102,9 @@ class Book:
         if one not in faces or other not in faces:
             raise NoFace("the book has no such face")
 
-    # Tells the chains from each of these faces; the placing ahead refuses impossible ties,
-    # with the same ring whatever is asked.
     def chains_of(self, faces):
         steps = steps_of(self.kept())
+        # Places are sought first, so that impossible ties are refused with the same ring whatever is asked.
         places_of(steps, self.faces())
         told = {}
         for face in faces:

@@ -46,9 +46,9 @@ def ring_behind(lasts, face):
     return list(reversed(backward))
 
 
-# Tells, for each face that is reached from the starts, the last step of a chain of the least sum.
-# Without a ring below 0 no such chain has more steps than there are, so that one round more
-# changes nothing; where it does, the last steps go round in a ring below 0.
+# Without a ring below 0 a chain of the least sum comes to no face twice, so it takes each step once
+# at most, and one round more than there are steps changes nothing. Where it does change something,
+# the last steps of the chains lead round in a ring, and its sum is below 0.
 def last_steps(steps, starts):
     sums = {}
     for face in starts:
@@ -69,7 +69,8 @@ def last_steps(steps, starts):
     raise Impossible("a ring of steps has a sum below 0", ring_behind(lasts, changed))
 
 
-# Tells a dict of pairs (sum, chain), for each face that is reached from the starts.
+# The sums are added up anew in fractions, along the chains that were found: over the one bottom for
+# all they would be far longer, and slow to bring to lowest terms.
 def chains_from(steps, starts):
     lasts = last_steps(steps, starts)
     told = {}

@@ -146,6 +146,13 @@ class Reckoned(Plain):
                 if right != 0:
                     self.check(over(one, other), *pair(left / right))
 
+    def test_sums_and_differences_of_small_fractions_all(self):
+        small = sorted({pair(Fraction(top, bottom)) for top in range(-13, 14) for bottom in range(1, 13)})
+        for one in small:
+            for other in small:
+                self.check(plus(one, other), *pair(Fraction(*one) + Fraction(*other)))
+                self.check(minus(one, other), *pair(Fraction(*one) - Fraction(*other)))
+
     def test_told_numbers_have_as_many_figures_as_they_need(self):
         told = times((FOUR_HUNDRED, 1), (FOUR_HUNDRED, 1))
         self.check(told, FOUR_HUNDRED ** 2, 1)

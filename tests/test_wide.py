@@ -25,7 +25,7 @@ def great(chance, sign=1):
 
 
 def great_ties(kind):
-    """Sixty ties between bounds with no bottom like another: in a line, or round in a ring that is just possible."""
+    """Sixty ties, no bottom like another: in a line, in a line but in backward order, or round in a ring."""
     chance = random.Random(kind)
     ties = []
     for one in range(60):
