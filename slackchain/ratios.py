@@ -37,12 +37,19 @@ def minus(one, other):
 
 
 def times(one, other):
-    return fraction(one[0] * other[0], one[1] * other[1])
+    # Each is in lowest terms, so the top of the one shares divisors with the bottom of the other alone.
+    across = common_divisor(one[0], other[1])
+    back = common_divisor(other[0], one[1])
+    return (one[0] // across * (other[0] // back), one[1] // back * (other[1] // across))
 
 
 def over(one, other):
-    # The bottom is 0 just where the other one is 0, and is refused then.
-    return fraction(one[0] * other[1], one[1] * other[0])
+    if other[0] == 0:
+        raise NoNumber("nothing goes over 0")
+    # Only a top may be below 0.
+    if other[0] < 0:
+        return times(one, (-other[1], -other[0]))
+    return times(one, (other[1], other[0]))
 
 
 def under(one, other):
@@ -56,3 +63,38 @@ def show_fraction(one):
     if bottom == 1:
         return f"{top}"
     return f"{top}/{bottom}"
+
+
+# One bottom for many fractions, so that sums of them need no divisors. It is kept as factors too: what a
+# long number shares with it is sought factor by factor, as each of them is short.
+class Scale:
+    def __init__(self, numbers):
+        self.bottom = 1
+        self.factors = []
+        for number in numbers:
+            factor = number[1] // common_divisor(self.bottom, number[1])
+            if factor > 1:
+                self.bottom = self.bottom * factor
+                self.factors.append(factor)
+
+    # Tells the number times the bottom: a whole one, where it is one of those that the scale was made of.
+    def lifted(self, number):
+        if self.bottom % number[1] == 0:
+            return (number[0] * (self.bottom // number[1]), 1)
+        top = number[0]
+        rest = number[1]
+        for factor in self.factors:
+            shared = common_divisor(rest, factor)
+            top = top * (factor // shared)
+            rest = rest // shared
+        return (top, rest)
+
+    # Tells the number over the bottom.
+    def lowered(self, number):
+        top = number[0]
+        bottom = number[1]
+        for factor in self.factors:
+            shared = common_divisor(top, factor)
+            top = top // shared
+            bottom = bottom * (factor // shared)
+        return (top, bottom)

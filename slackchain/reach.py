@@ -1,24 +1,17 @@
 """Which faces chains lead to, with what least sums, and rings whose sum is below 0."""
 
 from slackchain.errors import Impossible
-from slackchain.ratios import common_divisor, plus
+from slackchain.ratios import Scale, plus
 from slackchain.ties import ZERO, tie_of
 
 
 class Step:
-    def __init__(self, name, row, bottom):
+    def __init__(self, name, row, scale):
         self.source = row[0]
         self.target = row[1]
         self.cost = row[2]
-        self.whole = row[2][0] * (bottom // row[2][1])
+        self.whole = scale.lifted(row[2])[0]
         self.pair = (name, row[3])
-
-
-def common_bottom(costs):
-    bottom = 1
-    for cost in costs:
-        bottom = bottom // common_divisor(bottom, cost[1]) * cost[1]
-    return bottom
 
 
 # The steps have their costs as whole numbers too, over one bottom for all: chains are compared by
@@ -27,8 +20,8 @@ def steps_of(ties):
     rows = []
     for tie in ties:
         rows.extend([(tie.name, row) for row in tie.steps()])
-    bottom = common_bottom([row[2] for name, row in rows])
-    return [Step(name, row, bottom) for name, row in rows]
+    scale = Scale([row[2] for name, row in rows])
+    return [Step(name, row, scale) for name, row in rows]
 
 
 def ring_behind(lasts, face):

@@ -170,3 +170,87 @@ def possible_ties(seed, faces, count):
             greatest = pair(far + chance.choice((0, 0, Fraction(1, 2), 3)))
         ties.append((name, name_of(one), name_of(other), least, greatest))
     return ties
+
+
+def ways_between(parts, one, other):
+    """The way by parts from a face to a face, sought by trying: a list of pairs (part, forward), or None."""
+    def onward(face, passed):
+        if face == other:
+            return []
+        for name, start, end, size, most, weight in parts:
+            if name not in passed and face in (start, end):
+                rest = onward(end if face == start else start, passed + [name])
+                if rest is not None:
+                    return [(name, face == start)] + rest
+        return None
+
+    return onward(one, [])
+
+
+def plain_ways(parts, gaps):
+    """For each gap the names of the parts on its way."""
+    return {gap[0]: [name for name, forward in ways_between(parts, gap[1], gap[2])] for gap in gaps}
+
+
+def plain_middles(parts, gaps):
+    sizes = {part[0]: Fraction(*part[3]) for part in parts}
+    return {gap[0]: sum((sizes[name] if forward else -sizes[name]
+                         for name, forward in ways_between(parts, gap[1], gap[2])), Fraction(0)) for gap in gaps}
+
+
+def plain_rooms(parts, gaps):
+    middles = plain_middles(parts, gaps)
+    return {gap[0]: min(Fraction(*gap[4]) - middles[gap[0]], middles[gap[0]] - Fraction(*gap[3])) for gap in gaps}
+
+
+def keeps_all(parts, gaps, slacks):
+    """Whether these slacks, Fractions by the parts' names, keep every most and every room."""
+    ways = plain_ways(parts, gaps)
+    rooms = plain_rooms(parts, gaps)
+    return (all(0 <= slacks[part[0]] <= Fraction(*part[4]) for part in parts)
+            and all(sum(slacks[name] for name in ways[gap[0]]) <= rooms[gap[0]] for gap in gaps))
+
+
+def due_stop(parts, gaps, slacks, part):
+    """What stops this part, as promise 18 says it; None where nothing does."""
+    if slacks[part[0]] == Fraction(*part[4]):
+        return ("most",)
+    ways = plain_ways(parts, gaps)
+    rooms = plain_rooms(parts, gaps)
+    levels = {other[0]: slacks[other[0]] / other[5] for other in parts}
+    for gap in gaps:
+        way = ways[gap[0]]
+        if (part[0] in way and sum(slacks[name] for name in way) == rooms[gap[0]]
+                and max(levels[name] for name in way) == levels[part[0]]):
+            return ("gap", gap[0])
+    return None
+
+
+def some_thing(seed, faces, gap_count, weights=(1, 1, 2, 3, 7), shares=(0, 1, 1, 2, 3, 5)):
+    """Parts in trees, some in several pieces, and gaps of which none is too tight, the same for the same seed."""
+    chance = random.Random(seed)
+    parts = []
+    places = {0: (0, Fraction(0))}
+    for face in range(1, faces):
+        joined = chance.randrange(face) if seed % 3 else face - 1
+        if chance.randrange(7) == 0:
+            places[face] = (face, Fraction(0))
+            continue
+        size = Fraction(chance.randint(-9, 9), chance.randint(1, 4))
+        ends = [(joined, face), (face, joined)][chance.randrange(2)]
+        places[face] = (places[joined][0], places[joined][1] + (size if ends[1] == face else -size))
+        most = Fraction(chance.choice(shares), chance.randint(1, 3))
+        parts.append((name_of(face), name_of(ends[0]), name_of(ends[1]), pair(size), pair(most),
+                      chance.choice(weights)))
+    chance.shuffle(parts)
+    gaps = []
+    for number in range(gap_count):
+        one, other = chance.sample(range(faces), 2)
+        if places[one][0] != places[other][0]:
+            continue
+        middle = places[other][1] - places[one][1]
+        room = Fraction(chance.choice(shares + (4, 8)), chance.randint(1, 3))
+        more = chance.choice((0, 0, Fraction(1, 7), 3))
+        low, high = chance.choice([(middle - room, middle + room + more), (middle - room - more, middle + room)])
+        gaps.append((name_of(number + 500), name_of(one), name_of(other), pair(low), pair(high)))
+    return parts, gaps

@@ -75,7 +75,7 @@ class Files(unittest.TestCase):
     def test_there_are_files(self):
         names = [path.name for path, text in sources()]
         for name in ["__init__.py", "errors.py", "ratios.py", "ties.py", "chains.py", "reach.py", "books.py",
-                     "things.py"]:
+                     "things.py", "shares.py", "changes.py", "texts.py", "desk.py"]:
             self.assertIn(name, names)
 
     def test_nothing_else_lies_in_the_package(self):

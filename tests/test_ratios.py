@@ -1,10 +1,11 @@
 """Promise 4: fractions; promise 2 for them."""
 
+import random
 import unittest
 from fractions import Fraction
 
 from slackchain.errors import NoNumber
-from slackchain.ratios import fraction, minus, over, plus, show_fraction, times, under
+from slackchain.ratios import Scale, fraction, minus, over, plus, show_fraction, times, under
 
 SIXTY = 10 ** 60 - 1
 SIXTY_OTHER = 10 ** 60 - 11
@@ -146,12 +147,15 @@ class Reckoned(Plain):
                 if right != 0:
                     self.check(over(one, other), *pair(left / right))
 
-    def test_sums_and_differences_of_small_fractions_all(self):
+    def test_small_fractions_all(self):
         small = sorted({pair(Fraction(top, bottom)) for top in range(-13, 14) for bottom in range(1, 13)})
         for one in small:
             for other in small:
                 self.check(plus(one, other), *pair(Fraction(*one) + Fraction(*other)))
                 self.check(minus(one, other), *pair(Fraction(*one) - Fraction(*other)))
+                self.check(times(one, other), *pair(Fraction(*one) * Fraction(*other)))
+                if other != (0, 1):
+                    self.check(over(one, other), *pair(Fraction(*one) / Fraction(*other)))
 
     def test_told_numbers_have_as_many_figures_as_they_need(self):
         told = times((FOUR_HUNDRED, 1), (FOUR_HUNDRED, 1))
@@ -230,6 +234,20 @@ class Same(unittest.TestCase):
         with self.assertRaises(NoNumber):
             over((6, 1), (0, 1))
         self.assertEqual(fraction(6, 8), ahead)
+
+
+class Scales(unittest.TestCase):
+    def test_lifted_and_lowered(self):
+        for seed in range(200):
+            chance = random.Random(seed)
+            numbers = [pair(Fraction(chance.randint(-40, 40), chance.randint(1, 40))) for turn in range(seed % 6)]
+            scale = Scale(numbers)
+            for number in numbers:
+                self.assertEqual(scale.lifted(number)[1], 1)
+            for turn in range(20):
+                value = Fraction(chance.randint(-99, 99), chance.randint(1, 99))
+                self.assertEqual(scale.lifted(pair(value)), pair(value * scale.bottom))
+                self.assertEqual(scale.lowered(pair(value)), pair(value / scale.bottom))
 
 
 if __name__ == "__main__":
