@@ -77,8 +77,9 @@ class Scale:
                 self.bottom = self.bottom * factor
                 self.factors.append(factor)
 
-    # Tells the number times the bottom: a whole one, where it is one of those that the scale was made of.
+    # The number times the bottom.
     def lifted(self, number):
+        # Those that the scale was made of come out whole, and need no divisors sought.
         if self.bottom % number[1] == 0:
             return (number[0] * (self.bottom // number[1]), 1)
         top = number[0]
@@ -89,10 +90,11 @@ class Scale:
             rest = rest // shared
         return (top, rest)
 
-    # Tells the number over the bottom.
+    # The number over the bottom.
     def lowered(self, number):
         top = number[0]
         bottom = number[1]
+        # What is left of a factor shares nothing with what is left of the top, so one round is enough.
         for factor in self.factors:
             shared = common_divisor(top, factor)
             top = top // shared
